@@ -1,0 +1,1 @@
+"""Roundways: ways changed round by round."""

@@ -1,0 +1,92 @@
+"""Names, files, parameters, and what imports what."""
+
+import ast
+import importlib
+import inspect
+import pathlib
+import unittest
+
+import roundways
+from roundways import errors, mixtures, nets
+
+PACKAGE = pathlib.Path(roundways.__file__).parent
+ORDER = ["errors", "nets", "mixtures", "wishes", "blockers", "plans", "costs", "late", "slow", "seen", "live",
+         "journals", "texts", "desk"]
+FUNCTIONS = {
+    "nets": {"depths": "net goal is_new", "is_sound": "net"},
+    "mixtures": {
+        "ways": "net done lot goal", "ring": "net done lot goal", "ranks": "net done lot goal",
+        "are_ranks": "net done lot goal thing", "led": "net done changed goal node",
+        "is_moving": "net done lot goal node thing", "reached": "net done lot goal node",
+        "twice": "net done lot goal node",
+    },
+}
+ERRORS = {
+    "WayError": None, "BadNet": "part", "NoGoal": "goal", "NoNode": "node", "BadPlace": None, "BadLot": "part",
+    "BadWish": None, "BadWishes": None, "BadPlan": "at", "BadNumber": "number", "BadSights": "at", "RoundOpen": None,
+    "Unsafe": "wish", "NotSo": "node", "NoRound": None, "HalfDone": None, "NoPacket": "packet", "NothingDone": None,
+    "BadJournal": "at", "BadText": "line",
+}
+NET_METHODS = {"__init__": "self tables sources posts", "way": "self goal node is_new", "turned": "self",
+               "with_way": "self goal node is_new place"}
+NET_PROPERTIES = ["tables", "goals", "nodes", "sources", "posts", "changing"]
+
+
+def parameters(function):
+    return list(inspect.signature(function).parameters)
+
+
+class InterfaceTest(unittest.TestCase):
+    def test_functions_are_defined_in_their_files(self):
+        for module_name, functions in FUNCTIONS.items():
+            module = importlib.import_module(f"roundways.{module_name}")
+            for name, wanted in functions.items():
+                function = getattr(module, name)
+                self.assertTrue(inspect.isfunction(function))
+                self.assertEqual(function.__module__, module.__name__)
+                self.assertEqual(parameters(function), wanted.split())
+                self.assertEqual([p.default for p in inspect.signature(function).parameters.values()],
+                                 [inspect.Parameter.empty] * len(wanted.split()))
+
+    def test_errors_are_defined_in_their_file(self):
+        for name, attribute in ERRORS.items():
+            error = getattr(errors, name)
+            self.assertTrue(inspect.isclass(error))
+            self.assertEqual(error.__module__, "roundways.errors")
+            if attribute:
+                self.assertEqual(parameters(error.__init__), ["self", attribute])
+                self.assertEqual(list(vars(error("a"))), [attribute])
+        classes = [name for name, value in vars(errors).items() if inspect.isclass(value)]
+        self.assertEqual(sorted(classes), sorted(ERRORS))
+
+    def test_net_has_its_methods_in_its_own_body(self):
+        self.assertEqual(nets.Net.__module__, "roundways.nets")
+        self.assertEqual(nets.Net.__bases__, (object,))
+        for name, wanted in NET_METHODS.items():
+            self.assertEqual(parameters(vars(nets.Net)[name]), wanted.split())
+        for name in NET_PROPERTIES:
+            self.assertIsInstance(vars(nets.Net)[name], property)
+            self.assertIsNone(vars(nets.Net)[name].fset)
+        self.assertEqual([p.default for p in inspect.signature(nets.Net).parameters.values()][1:], [(), ()])
+
+    def test_init_defines_nothing(self):
+        rows = ast.parse((PACKAGE / "__init__.py").read_text()).body
+        self.assertTrue(all(isinstance(row, ast.Expr) and isinstance(row.value, ast.Constant) for row in rows))
+
+    def test_modules_import_only_modules_named_before(self):
+        for path in sorted(PACKAGE.glob("*.py")):
+            for row in ast.walk(ast.parse(path.read_text())):
+                if isinstance(row, ast.ImportFrom) and row.module.startswith("roundways") and path.stem in ORDER:
+                    other = row.module.split(".")[1]
+                    self.assertIn(other, ORDER[:ORDER.index(path.stem)], path.name)
+
+    def test_names_come_from_the_files_that_define_them(self):
+        for module in (nets, mixtures):
+            for row in ast.parse(inspect.getsource(module)).body:
+                if isinstance(row, ast.ImportFrom):
+                    for alias in row.names:
+                        self.assertEqual(getattr(module, alias.name).__module__, row.module)
+
+
+if __name__ == "__main__":
+    unittest.main()

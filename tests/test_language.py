@@ -1,0 +1,184 @@
+"""The rules for the files of the package that can be checked by looking at them."""
+
+import ast
+import builtins
+import pathlib
+import re
+import unittest
+
+import roundways
+
+PACKAGE = pathlib.Path(roundways.__file__).parent
+BUILTINS = """len range enumerate zip min max sum abs sorted reversed int str bool bytes list tuple dict set frozenset
+    isinstance ord repr any all divmod iter next map Exception ValueError TypeError KeyError IndexError LookupError
+    ZeroDivisionError ArithmeticError OverflowError RuntimeError NotImplementedError AttributeError StopIteration
+    NotImplemented property staticmethod classmethod super""".split()
+METHODS = """append clear copy count endswith extend find get index insert isalnum isalpha isdigit islower isspace
+    isupper items join keys ljust lower lstrip partition pop remove replace reverse rfind rjust rpartition rsplit
+    rstrip setdefault split splitlines startswith strip update upper values zfill bit_length add discard""".split()
+SPECIAL = """__init__ __eq__ __repr__ __str__ __len__ __enter__ __exit__ __call__ __iter__ __lt__ __le__ __gt__ __ge__
+    __ne__ __bool__ __contains__""".split()
+WORDS = """type typing typing_extensions enum Enum IntEnum StrEnum Flag IntFlag Generic Protocol ABC ABCMeta namedtuple
+    NamedTuple TypedDict TYPE_CHECKING abstractmethod""".split()
+NO_NAMES = """register mro elements open input law version_info with_traceback add_note attrgetter breakpoint builtins
+    compile copyright credits delattr dir eval exec exit gc getattr globals hasattr help id importlib license locals
+    methodcaller os quit setattr vars sys""".split()
+NO_NODES = (ast.Global, ast.AsyncFunctionDef, ast.AsyncFor, ast.AsyncWith, ast.Await, ast.Import, ast.Div, ast.MatMult,
+            ast.GeneratorExp)
+
+
+def files():
+    return [(path, path.read_text(encoding="utf-8")) for path in sorted(PACKAGE.rglob("*.py"))]
+
+
+def nodes():
+    for path, text in files():
+        for node in ast.walk(ast.parse(text)):
+            yield path, node
+
+
+def bound_names(node):
+    """The names that a node binds."""
+    if isinstance(node, (ast.FunctionDef, ast.ClassDef)):
+        return [node.name]
+    if isinstance(node, ast.arg):
+        return [node.arg]
+    if isinstance(node, ast.Name) and isinstance(node.ctx, ast.Store):
+        return [node.id]
+    if isinstance(node, ast.ExceptHandler) and node.name:
+        return [node.name]
+    return []
+
+
+class FilesTest(unittest.TestCase):
+    def test_the_folder_holds_only_files_of_python(self):
+        for path in PACKAGE.rglob("*"):
+            if "__pycache__" not in path.parts:
+                self.assertTrue(path.is_dir() or re.fullmatch(r"[a-z0-9_]+\.py", path.name), path)
+
+    def test_sizes_and_characters(self):
+        for path, text in files():
+            lines = text.split("\n")
+            self.assertLessEqual(len(lines) - 1, 399, path)
+            self.assertTrue(all(sign == "\n" or " " <= sign <= "~" for sign in text), path)
+            self.assertLessEqual(max(len(line) for line in lines), 120, path)
+            self.assertTrue(text.endswith("\n"), path)
+
+    def test_functions_are_small(self):
+        for path, node in nodes():
+            if isinstance(node, ast.FunctionDef):
+                self.assertLessEqual(node.end_lineno - node.lineno + 1, 40, (path, node.name))
+
+    def test_words_that_do_not_occur(self):
+        for path, text in files():
+            for row in ast.walk(ast.parse(text)):
+                names = bound_names(row)
+                if isinstance(row, ast.Attribute):
+                    names = [row.attr]
+                for name in names:
+                    self.assertNotIn(name, WORDS, path)
+            self.assertFalse(re.search("dataclass|overload|contextmanager|_wall|_WallAttr", text), path)
+
+
+class CodeTest(unittest.TestCase):
+    def test_statements_and_values(self):
+        for path, node in nodes():
+            self.assertNotIsInstance(node, NO_NODES, (path, getattr(node, "lineno", 0)))
+            if isinstance(node, ast.Constant):
+                self.assertIsInstance(node.value, (int, str, bytes, type(None)), path)
+            if isinstance(node, ast.Constant) and isinstance(node.value, str):
+                self.assertNotIn("\x25", node.value, path)
+                self.assertFalse(node.value.endswith(("._", ".__")), path)
+
+    def test_module_level(self):
+        allowed = (ast.FunctionDef, ast.ClassDef, ast.ImportFrom, ast.Assign, ast.Expr)
+        for path, text in files():
+            body = ast.parse(text).body
+            bound = []
+            for at, row in enumerate(body):
+                self.assertIsInstance(row, allowed, path)
+                if isinstance(row, ast.Expr):
+                    self.assertEqual(at, 0, path)
+                    self.assertIsInstance(row.value, ast.Constant, path)
+                if isinstance(row, ast.Assign):
+                    self.assertEqual(len(row.targets), 1, path)
+                    self.assertFalse([part for part in ast.walk(row.value) if isinstance(part, ast.Call)], path)
+                    bound.append(row.targets[0].id)
+                elif isinstance(row, ast.ImportFrom):
+                    bound.extend(alias.asname or alias.name for alias in row.names)
+                elif not isinstance(row, ast.Expr):
+                    bound.append(row.name)
+            self.assertEqual(len(bound), len(set(bound)), path)
+
+    def test_imports(self):
+        allowed = {"heapq": "heappush heappop heapify heapreplace heappushpop", "math": "gcd lcm isqrt comb perm factorial",
+                   "itertools": "product combinations permutations"}
+        for path, node in nodes():
+            if isinstance(node, ast.ImportFrom):
+                self.assertEqual(node.level, 0, path)
+                for alias in node.names:
+                    self.assertNotEqual(alias.name, "*", path)
+                    self.assertTrue(node.module.startswith("roundways.")
+                                    or alias.name in allowed.get(node.module, "").split(), path)
+
+    def test_names(self):
+        for path, text in files():
+            tree = ast.parse(text)
+            imports = [alias.asname or alias.name for row in tree.body if isinstance(row, ast.ImportFrom)
+                       for alias in row.names]
+            classes = [row.name for row in tree.body if isinstance(row, ast.ClassDef)]
+            methods = [part for row in tree.body if isinstance(row, ast.ClassDef) for part in row.body]
+            for node in ast.walk(tree):
+                for name in bound_names(node):
+                    where = (path, name, node.lineno)
+                    if not isinstance(node, ast.ClassDef) and node not in methods:
+                        self.assertNotIn(name, imports + classes, where)
+                    if node not in methods:
+                        self.assertFalse(hasattr(builtins, name), where)
+                        self.assertNotIn(name, NO_NAMES, where)
+                    self.assertTrue(re.fullmatch(r"_|_?[A-Za-z][A-Za-z0-9_]*", name) or name in SPECIAL, where)
+                if isinstance(node, ast.Name) and isinstance(node.ctx, ast.Load):
+                    self.assertNotEqual(node.id, "_", path)
+                    if hasattr(builtins, node.id):
+                        self.assertIn(node.id, BUILTINS, (path, node.lineno))
+
+    def test_decorators_are_properties(self):
+        for path, node in nodes():
+            if isinstance(node, (ast.FunctionDef, ast.ClassDef)):
+                for decorator in node.decorator_list:
+                    self.assertIsInstance(node, ast.FunctionDef)
+                    self.assertEqual(ast.unparse(decorator), "property", (path, node.name))
+
+    def test_calls_of_methods(self):
+        own = {row.name for _, node in nodes() if isinstance(node, ast.ClassDef) for row in node.body
+               if isinstance(row, ast.FunctionDef)}
+        for path, node in nodes():
+            if isinstance(node, ast.Call) and isinstance(node.func, ast.Attribute):
+                self.assertIn(node.func.attr, METHODS + sorted(own), (path, node.lineno))
+
+    def test_is_only_with_none_true_and_false(self):
+        for path, node in nodes():
+            if isinstance(node, ast.Compare):
+                for operator, value in zip(node.ops, node.comparators):
+                    if isinstance(operator, (ast.Is, ast.IsNot)):
+                        self.assertIsInstance(value, ast.Constant, (path, node.lineno))
+
+    def test_sets_are_sorted_or_counted_on_the_spot(self):
+        inside = set()
+        for path, node in nodes():
+            if isinstance(node, ast.Call) and isinstance(node.func, ast.Name) and node.func.id in ("sorted", "len"):
+                inside.update((path, part.lineno, part.col_offset) for part in node.args)
+        for path, node in nodes():
+            self.assertNotIsInstance(node, (ast.Set, ast.SetComp), path)
+            if isinstance(node, ast.Call) and isinstance(node.func, ast.Name) and node.func.id == "set":
+                self.assertIn((path, node.lineno, node.col_offset), inside)
+
+    def test_errors_are_raised_by_the_names_of_their_classes(self):
+        for path, node in nodes():
+            if isinstance(node, ast.Raise):
+                self.assertIsInstance(node.exc, ast.Call, (path, node.lineno))
+                self.assertIsInstance(node.exc.func, ast.Name, (path, node.lineno))
+
+
+if __name__ == "__main__":
+    unittest.main()

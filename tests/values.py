@@ -1,0 +1,75 @@
+"""Values that several tests use."""
+
+from roundways.errors import BadPlace, NoNode
+from roundways.nets import Net
+
+
+def nested(value, deep):
+    for _ in range(deep):
+        value = [value]
+    return value
+
+
+def nested_tuple(value, deep):
+    for _ in range(deep):
+        value = (value,)
+    return value
+
+
+def nested_dict(value, deep):
+    for _ in range(deep):
+        value = {"a": value}
+    return value
+
+
+def picture(value):
+    """A text that differs for values that differ, also in kinds or in the order of keys."""
+    if isinstance(value, (list, tuple)):
+        return f"{type(value).__name__}[{', '.join(picture(item) for item in value)}]"
+    if isinstance(value, dict):
+        return f"dict[{', '.join(f'{picture(key)}: {picture(item)}' for key, item in value.items())}]"
+    if isinstance(value, Net):
+        return f"Net[{value.tables!r}, {value.sources!r}, {value.posts!r}]"
+    return repr(value)
+
+
+def other_net():
+    return Net({"z": ({"y": "z"}, {"y": None})})
+
+
+def any_values():
+    """New values of all kinds, none of which is a name of a node or a goal used in the tests."""
+    return [
+        None, True, False, 0, 1, -1, 2, 10 ** 999, -(10 ** 999), "", "-", "A", "a ", "ab", "abcdefg", "nowhere",
+        [], (), {}, [None], (None,), ["a"], ("a", "a"), [["a"]], (("a",),), {"a": 1}, {1: "a"}, {None: None},
+        {("a",): ["a"]}, nested("a", 20), nested_tuple("a", 20), nested_dict("a", 20), nested_tuple(1, 20),
+        other_net(), [other_net()], (other_net(),), {"a": other_net()}, BadPlace("no place"), NoNode("a"),
+    ]
+
+
+def triangle():
+    """Each of the three nodes changes; a is a source, b a post."""
+    old = {"a": "b", "b": "c", "c": "g"}
+    new = {"a": "c", "b": "g", "c": "b"}
+    return Net({"g": (old, new)}, ["a"], ["b"])
+
+
+def pair():
+    """Two nodes that lead to one another if b changes first."""
+    return Net({"g": ({"a": "b", "b": "g"}, {"a": "g", "b": "a"})})
+
+
+def double():
+    """Two goals; a changes for g only, b for h only, c for both, d for none; d loses packets for h."""
+    old_g = {"a": "b", "b": "c", "c": "g", "d": "a"}
+    new_g = {"a": "c", "b": "c", "c": None, "d": "a"}
+    old_h = {"a": "d", "b": "h", "c": "b", "d": None}
+    new_h = {"a": "d", "b": "a", "c": "h", "d": None}
+    return Net({"h": (old_h, new_h), "g": (old_g, new_g)}, ("d", "a"), ("c", "a"))
+
+
+def chain():
+    """Six nodes one behind the other; the new ways lead all the way back, but for the first node."""
+    old = {"a": "b", "b": "c", "c": "d", "d": "e", "e": "f", "f": "goal"}
+    new = {"a": "goal", "b": "a", "c": "a", "d": "a", "e": "a", "f": "a"}
+    return Net({"goal": (old, new)}, ["f"])
