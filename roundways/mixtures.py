@@ -35,17 +35,7 @@ def ring(net, done, lot, goal):
 
 def ranks(net, done, lot, goal):
     """The least numbers of the nodes that fall along each way between them, None if there is a ring."""
-    mixture = ways(net, done, lot, goal)
-    found = {}
-    # Without a ring each pass finds the number of one more node at least.
-    for _ in mixture:
-        for node in mixture:
-            below = nodes_behind(mixture, node)
-            if all([place in found for place in below]):
-                found[node] = max([found[place] + 1 for place in below], default=0)
-    if len(found) < len(mixture):
-        return None
-    return {node: found[node] for node in mixture}
+    return least_ranks(ways(net, done, lot, goal))
 
 
 def are_ranks(net, done, lot, goal, thing):
@@ -99,9 +89,7 @@ def reached(net, done, lot, goal, node):
     """The nodes that moving packets from a node come to, whether one gets to the goal, or is lost."""
     mixture = ways(net, done, lot, goal)
     check_node(net, node)
-    found = [node]
-    for _ in mixture:
-        found = sorted(set(found + [place for begun in found for place in nodes_behind(mixture, begun)]))
+    found = nodes_reached(mixture, [node])
     # A packet along a path without a node twice leaves each node once: some moments allow all its ways.
     ends = [place for begun in found for place in mixture[begun]]
     return (tuple(found), goal in ends, None in ends)
@@ -128,19 +116,55 @@ def with_moments(net, lot, goal, places):
     for place, later in zip(places, places[1:]):
         # A node changes just before the packet needs its new way, so that no earlier way is barred.
         if place in lot and net.way(goal, place, False) != later:
-            changed = tuple(sorted([*changed, place]))
+            changed = joined(changed, (place,))
         pairs.append((place, changed))
     return [*pairs, (places[-1], changed)]
 
 
 def ways_at(net, done, changed, goal):
     """The dict from the nodes to their ways at a moment behind done."""
-    return {node: net.way(goal, node, node in done or node in changed) for node in net.nodes}
+    old, new = net.tables[goal]
+    return {node: new[node] if node in done or node in changed else old[node] for node in net.nodes}
 
 
 def nodes_behind(mixture, node):
     """The list of the nodes to which a node can hand packets on."""
     return [place for place in mixture[node] if place in mixture]
+
+
+def nodes_reached(mixture, starts):
+    """The ascending list of the nodes to which packets come from these nodes, and of these."""
+    found = sorted(starts)
+    for _ in mixture:
+        found = sorted(set(found + [place for begun in found for place in nodes_behind(mixture, begun)]))
+    return found
+
+
+def least_ranks(mixture):
+    """The least numbers that fall along each way between the nodes of a mixture, None if there is a ring."""
+    found = {}
+    # Without a ring each pass finds the number of one more node at least.
+    for _ in mixture:
+        for node in mixture:
+            below = nodes_behind(mixture, node)
+            if all([place in found for place in below]):
+                found[node] = max([found[place] + 1 for place in below], default=0)
+    if len(found) < len(mixture):
+        return None
+    return {node: found[node] for node in mixture}
+
+
+def joined(lot, other):
+    """The lot of the nodes of two lots that have no node in common."""
+    return tuple(sorted([*lot, *other]))
+
+
+def parts_of(lot):
+    """The list of all parts of a lot, by length: of a round, its moments."""
+    parts = [()]
+    for node in lot:
+        parts = parts + [(*part, node) for part in parts]
+    return sorted(parts, key=lambda part: (len(part), part))
 
 
 def check_lot(net, lot, part):

@@ -7,7 +7,7 @@ import pathlib
 import unittest
 
 import roundways
-from roundways import errors, mixtures, nets
+from roundways import blockers, costs, errors, mixtures, nets, plans, wishes
 
 PACKAGE = pathlib.Path(roundways.__file__).parent
 ORDER = ["errors", "nets", "mixtures", "wishes", "blockers", "plans", "costs", "late", "slow", "seen", "live",
@@ -20,6 +20,18 @@ FUNCTIONS = {
         "is_moving": "net done lot goal node thing", "reached": "net done lot goal node",
         "twice": "net done lot goal node",
     },
+    "wishes": {
+        "keeps": "net done lot wishes", "first_broken": "net done lot wishes", "shown": "net done lot wish",
+        "is_shown": "net done lot wish thing",
+    },
+    "blockers": {
+        "blockers": "net done wishes", "greatest_rounds": "net done wishes", "why_not": "net done lot wishes",
+    },
+    "plans": {
+        "is_plan": "net wishes thing", "by_depth": "net", "fewest": "net wishes", "is_fewest": "net wishes thing",
+        "how_many": "net wishes many", "plan_at": "net wishes many place",
+    },
+    "costs": {"cost": "net wishes", "costs": "net", "quarrels": "net many", "saved": "net wishes other"},
 }
 ERRORS = {
     "WayError": None, "BadNet": "part", "NoGoal": "goal", "NoNode": "node", "BadPlace": None, "BadLot": "part",
@@ -34,6 +46,13 @@ NET_PROPERTIES = ["tables", "goals", "nodes", "sources", "posts", "changing"]
 
 def parameters(function):
     return list(inspect.signature(function).parameters)
+
+
+def defined(row):
+    """The names that a row at module level defines, those of imports excepted."""
+    if isinstance(row, (ast.FunctionDef, ast.ClassDef)):
+        return [row.name]
+    return [target.id for target in row.targets] if isinstance(row, ast.Assign) else []
 
 
 class InterfaceTest(unittest.TestCase):
@@ -81,11 +100,14 @@ class InterfaceTest(unittest.TestCase):
                     self.assertIn(other, ORDER[:ORDER.index(path.stem)], path.name)
 
     def test_names_come_from_the_files_that_define_them(self):
-        for module in (nets, mixtures):
+        for module in (nets, mixtures, wishes, blockers, plans, costs):
             for row in ast.parse(inspect.getsource(module)).body:
                 if isinstance(row, ast.ImportFrom):
+                    source = importlib.import_module(row.module)
+                    own = {name for node in ast.parse(inspect.getsource(source)).body for name in defined(node)}
                     for alias in row.names:
-                        self.assertEqual(getattr(module, alias.name).__module__, row.module)
+                        self.assertIn(alias.name, own, module.__name__)
+                        self.assertIsNone(alias.asname)
 
 
 if __name__ == "__main__":

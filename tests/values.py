@@ -73,3 +73,37 @@ def chain():
     old = {"a": "b", "b": "c", "c": "d", "d": "e", "e": "f", "f": "goal"}
     new = {"a": "goal", "b": "a", "c": "a", "d": "a", "e": "a", "f": "a"}
     return Net({"goal": (old, new)}, ["f"])
+
+
+def crossed():
+    """For g the node a must change before b, for h b before a; all ways are sound."""
+    tables = {
+        "g": ({"a": "b", "b": "g"}, {"a": "g", "b": "a"}),
+        "h": ({"a": "h", "b": "a"}, {"a": "b", "b": "h"}),
+    }
+    return Net(tables, ["a"])
+
+
+def closing():
+    """All three nodes lead to the goal, and around in a ring when the last of them has changed."""
+    return Net({"g": ({"a": "g", "b": "g", "c": "g"}, {"a": "b", "b": "c", "c": "a"})}, ["b"])
+
+
+def stuck():
+    """For the post d the nodes must change in the order c, a, b; against rings in the order b, d, c."""
+    old = {"a": "b", "b": "d", "c": "g", "d": "c"}
+    new = {"a": "c", "b": "g", "c": "d", "d": "b"}
+    return Net({"g": (old, new)}, ["a"], ["d"])
+
+
+def still(posts=(), sources=("a",)):
+    """Nothing changes; packets go from a by b and c to the goal."""
+    table = {"a": "b", "b": "c", "c": "g"}
+    return Net({"g": (table, table)}, sources, posts)
+
+
+def losing():
+    """The packets of a are lost while b has its new way, and c still its old one."""
+    old = {"a": "b", "b": "g", "c": None}
+    new = {"a": "b", "b": "c", "c": "g"}
+    return Net({"g": (old, new)}, ["a"])
