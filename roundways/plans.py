@@ -99,7 +99,8 @@ def safe_rounds(changing, broken):
             behind = found[joined(done, (node,))]
             for lot in list(safe):
                 if lot in behind:
-                    safe[(*lot, node)] = True
+                    longer = (*lot, node)
+                    safe[longer] = True
         found[done] = safe
     return {done: sorted(found[done]) for done in found}
 

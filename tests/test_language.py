@@ -50,6 +50,12 @@ def bound_names(node):
     return []
 
 
+def starred_indexes(text):
+    """The lines of the indexes within whose brackets a star stands."""
+    return sorted({node.lineno for node in ast.walk(ast.parse(text)) if isinstance(node, ast.Subscript)
+                   and any(isinstance(part, ast.Starred) for part in ast.walk(node.slice))})
+
+
 class FilesTest(unittest.TestCase):
     def test_the_folder_holds_only_files_of_python(self):
         for path in PACKAGE.rglob("*"):
@@ -141,6 +147,21 @@ class CodeTest(unittest.TestCase):
                     self.assertNotEqual(node.id, "_", path)
                     if hasattr(builtins, node.id):
                         self.assertIn(node.id, BUILTINS, (path, node.lineno))
+
+    def test_no_star_stands_within_the_brackets_of_an_index(self):
+        for path, text in files():
+            self.assertEqual(starred_indexes(text), [], path)
+
+    def test_stars_in_indexes_are_found(self):
+        for row in ("safe[(*lot, node)] = True", "k = safe[(*lot, node)]", "del safe[(*lot, node)]", "safe[*lot, node] = 1",
+                    "k = safe[*lot]", "del k, safe[*lot, node]", "safe[(*lot,)] += 1", "k = safe[[*lot][0]]",
+                    "k, safe[(node, *lot)] = 1, 2", "for safe[(*lot, 1)] in rows:\n        pass", "box.safe[(*lot, 1)].many = 1",
+                    "k = safe[0][(*lot, 1)]", "k = safe[rows[(*lot, 1)]]", "k = safe[(1, (*lot, 2))]", "k = [safe[(*lot, m)] for m in lot]",
+                    "k = safe[max(*lot)]", "with box[(*lot, 1)] as k:\n        pass", "k = lot[len([*lot]):]", "return (*lot, safe[(*lot,)])"):
+            self.assertEqual(starred_indexes(f"def step(safe, lot):\n    {row}\n"), [2], row)
+        for row in ("longer = (*lot, node)\n    safe[longer] = True", "k = [*lot, safe[0]]", "first, *rest = safe[1:]",
+                    "k = safe[2 * lot[0]]", "k = safe[lot[0] ** 2]", "safe[lot] = (*lot, 1)", "del safe[lot]", "k = [*safe[0]]"):
+            self.assertEqual(starred_indexes(f"def step(safe, lot):\n    {row}\n"), [], row)
 
     def test_decorators_are_properties(self):
         for path, node in nodes():
