@@ -22,15 +22,7 @@ def ways(net, done, lot, goal):
 
 def ring(net, done, lot, goal):
     """The least one of the shortest rings of the mixture, None if there is none."""
-    mixture = ways(net, done, lot, goal)
-    # Shorter paths come first, ascending: the first that closes has no node twice, and is the least ring.
-    paths = [(node,) for node in mixture]
-    while paths:
-        for path in paths:
-            if path[0] in mixture[path[-1]]:
-                return path
-        paths = [(*begun, place) for begun in paths for place in sorted(nodes_behind(mixture, begun[-1]))]
-    return None
+    return least_ring(ways(net, done, lot, goal))
 
 
 def ranks(net, done, lot, goal):
@@ -138,6 +130,18 @@ def nodes_reached(mixture, starts):
     for _ in mixture:
         found = sorted(set(found + [place for begun in found for place in nodes_behind(mixture, begun)]))
     return found
+
+
+def least_ring(mixture):
+    """The least one of the shortest rings of the nodes of a mixture, None if there is none."""
+    # Shorter paths come first, ascending: the first that closes has no node twice, and is the least ring.
+    paths = [(node,) for node in mixture]
+    while paths:
+        for path in paths:
+            if path[0] in mixture[path[-1]]:
+                return path
+        paths = [(*begun, place) for begun in paths for place in sorted(nodes_behind(mixture, begun[-1]))]
+    return None
 
 
 def least_ranks(mixture):

@@ -1,10 +1,10 @@
-"""What holds for all functions of wishes, blockers, plans and costs: errors in their order, copies, names, equal results."""
+"""What holds for all functions of the parts 3 to 9: errors in their order, copies, names, equal results."""
 
 import itertools
 import unittest
 
-from roundways import blockers, costs, plans, wishes
-from roundways.errors import BadLot, BadNet, BadNumber, BadWish, BadWishes, WayError
+from roundways import blockers, costs, late, plans, seen, slow, wishes
+from roundways.errors import BadLot, BadNet, BadNumber, BadPlan, BadSights, BadWish, BadWishes, NoGoal, NoNode, WayError
 from roundways.nets import Net
 from values import chain, closing, crossed, double, losing, pair, picture, still, stuck, triangle
 
@@ -21,12 +21,29 @@ PARAMETERS = {
         "how_many": "net wishes many", "plan_at": "net wishes many place",
     },
     costs: {"cost": "net wishes", "costs": "net", "quarrels": "net many", "saved": "net wishes other"},
+    late: {
+        "late_fault": "net wishes plan", "least_price": "net wishes plan", "is_late_fault": "net wish plan thing",
+        "stands": "net wishes plan many", "fewest_standing": "net wishes many", "most_standing": "net wishes",
+    },
+    slow: {
+        "is_slow": "net plan goal thing", "most_hops": "net plan goal node", "slow_twice": "net plan goal node",
+        "slow_fault": "net wishes plan goal node", "hops_paper": "net plan goal node",
+        "is_hops_paper": "net plan goal node thing",
+    },
+    seen: {
+        "is_story": "net plan sights thing", "story": "net plan sights", "stages": "net plan sights",
+        "known": "net plan sights", "clash": "net plan sights",
+    },
 }
 NUMBERS = {(): 0, ("a",): 1, ("a", "b"): 1, ("a", "b", "c"): 2, ("b",): 1, ("b", "c"): 2}
 THINGS = {
     "is_shown": ("kept", {"g": {"a": 2, "b": 0, "c": 1}}),
     "is_plan": [("a", "b"), ("c",)],
     "is_fewest": ("plan", [("a", "b"), ("c",)], NUMBERS),
+    "is_late_fault": (1, "g", ("c",), "b"),
+    "is_slow": [(0, "a"), (0, "b"), (1, "g")],
+    "is_hops_paper": slow.hops_paper(triangle(), [("b",), ("a", "c")], "g", "a"),
+    "is_story": [(0, ()), (0, ("b",))],
 }
 WRONG = {
     "net": [(value, BadNet, "part", "net") for value in (None, "net", {}, [], triangle().tables, BadNet("net"))],
@@ -36,6 +53,14 @@ WRONG = {
     "wishes": [(value, BadWishes, None, None) for value in (None, "home", ["ring"], ["home", "home"], {"home": 1}, [[]], 0)],
     "other": [(value, BadWishes, None, None) for value in (None, "home", ["ring"], ["home", "home"], {"home": 1}, [[]], 0)],
     "many": [(value, BadNumber, "number", value) for value in ("1", True, False, -1, 7, [1], (2,), 10 ** 999)],
+    "plan": [(value, BadPlan, "at", at) for value, at in (
+        (None, None), ("ab", None), ({("a",): 1}, None), ([()], 0), ((("b",), ("b",)), 1), ([["a"]], 0), ([("a",), ("d",)], 1),
+        ([("c", "a")], 0), (["a"], 0), ([("a",), ("b",), ("c",), None, None], 3), (0, None))],
+    "sights": [(value, BadSights, "at", at) for value, at in (
+        (None, None), ("a", None), ({}, None), ([None], 0), ([("g", "a", "b"), ("g", "a", "a")], 1), ([("g", "a", "b")] * 13, None),
+        ([["g", "a", "b"]], 0), ((("g", "a", None), ("g", "b", "d"), None), 1), (("g", "a", "b"), 0))],
+    "goal": [(value, NoGoal, "goal", value) for value in (None, "a", "h", ["g"], ("g",), True, 10 ** 999)],
+    "node": [(value, NoNode, "node", value) for value in (None, "g", "d", ["a"], ("a",), False, {"a": 1})],
     "place": [(value, BadNumber, "number", value) for value in (None, "0", True, False, -1, 2, [0], {0: 0}, 10 ** 999)],
 }
 
@@ -49,7 +74,8 @@ def functions():
 def arguments(name, parameters):
     """Arguments that raise no error, by their names."""
     given = {"net": triangle(), "done": ("b",), "lot": ("c",), "wish": "rings", "wishes": ["rings"], "other": ["lost"],
-             "many": 2, "place": 1, "thing": THINGS.get(name)}
+             "many": 2, "place": 1, "plan": [("b",), ("a", "c")], "goal": "g", "node": "a",
+             "sights": [("g", "a", "b"), ("g", "b", "g")], "thing": THINGS.get(name)}
     return {parameter: given[parameter] for parameter in parameters}
 
 
@@ -64,6 +90,14 @@ def spoil(value):
         for item in value.values():
             spoil(item)
         value["spoiled"] = "spoiled"
+
+
+def fitted(given, net):
+    """The arguments with another net, and with what makes no error with it."""
+    goal, node = net.goals[-1], net.nodes[0]
+    more = {"net": net, "done": (), "lot": (), "plan": [net.changing] if net.changing else [], "goal": goal, "node": node,
+            "sights": [(goal, node, net.way(goal, node, False))]}
+    return {**given, **{key: value for key, value in more.items() if key in given}}
 
 
 def other_kind(value):
@@ -147,6 +181,9 @@ class CallsTest(unittest.TestCase):
             "blockers": [], "greatest_rounds": [("a", "c")], "why_not": None, "is_plan": True,
             "by_depth": [("b",), ("c",), ("a",)], "is_fewest": True, "how_many": 2, "plan_at": [("b",), ("a", "c")],
             "cost": 2, "quarrels": [("home", "posts"), ("posts", "rings")], "saved": 1,
+            "least_price": 1, "is_late_fault": True, "stands": False, "fewest_standing": None, "most_standing": 0,
+            "is_slow": True, "most_hops": 4, "is_hops_paper": True,
+            "is_story": True, "stages": [(0, 1), (0, 1, 2)], "known": (("b",), ("a", "b", "c")), "clash": None,
         }
         for function, name, parameters in functions():
             if name in wanted:
@@ -182,10 +219,7 @@ class CallsTest(unittest.TestCase):
     def test_arguments_are_not_changed(self):
         for function, name, parameters in functions():
             for net in nets():
-                given = arguments(name, parameters)
-                given["net"] = net
-                for key in ("done", "lot"):
-                    given.update({key: ()} if key in given else {})
+                given = fitted(arguments(name, parameters), net)
                 before = picture(given)
                 try:
                     function(**given)
@@ -197,10 +231,10 @@ class CallsTest(unittest.TestCase):
         for function, name, parameters in functions():
             for wish in ("home", "lost", "posts", "rings"):
                 for net in nets():
-                    given = arguments(name, parameters)
+                    given = fitted(arguments(name, parameters), net)
                     given.update({key: value for key, value in
-                                  (("net", net), ("done", ()), ("lot", net.changing), ("wish", wish), ("wishes", [wish]),
-                                   ("many", 2), ("place", 0)) if key in given})
+                                  (("lot", net.changing), ("wish", wish), ("wishes", [wish]), ("many", 2), ("place", 0))
+                                  if key in given})
                     if name == "plan_at" and plans.how_many(net, [wish], 2) == 0:
                         continue
                     first = function(**given)
@@ -219,11 +253,14 @@ class CallsTest(unittest.TestCase):
             sources.append("b")
             posts.clear()
             self.assertEqual(picture(function(**given)), first)
-            for key in ("wishes", "other"):
-                if key in given:
-                    given[key].append("posts")
+            more = {"wishes": "posts", "other": "posts", "sights": ("g", "c", "b")}
+            for key in given:
+                if key in more:
+                    given[key].append(more[key])
+                if key == "plan":
+                    given[key][1] = ("c",)
             again = arguments(name, parameters)
-            again.update({key: given[key][:] for key in ("wishes", "other") if key in given})
+            again.update({key: given[key][:] for key in ("wishes", "other", "sights", "plan") if key in given})
             if name != "plan_at":
                 self.assertEqual(picture(function(**given)), picture(function(**again)))
 
@@ -246,6 +283,28 @@ class CallsTest(unittest.TestCase):
         paper[1].reverse()
         self.assertIs(plans.is_fewest(triangle(), ["rings"], paper), False)
         self.assertIs(plans.is_fewest(triangle(), ["rings"], plans.fewest(triangle(), ["rings"])), True)
+
+    def test_later_papers_and_stories_are_changed(self):
+        plan, sights = [("b",), ("a", "c")], [("g", "a", "b"), ("g", "b", "g")]
+        _, heights, packet = paper = slow.hops_paper(triangle(), plan, "g", "a")
+        self.assertIs(slow.is_hops_paper(triangle(), plan, "g", "a", paper), True)
+        heights[(0, "a")] = 9
+        self.assertIs(slow.is_hops_paper(triangle(), plan, "g", "a", paper), False)
+        heights[(0, "a")] = 0
+        last = packet.pop()
+        self.assertIs(slow.is_hops_paper(triangle(), plan, "g", "a", paper), False)
+        packet.append(last)
+        self.assertIs(slow.is_hops_paper(triangle(), plan, "g", "a", paper), True)
+        self.assertIs(slow.is_slow(triangle(), plan, "g", packet), True)
+        packet.append(last)
+        self.assertIs(slow.is_slow(triangle(), plan, "g", packet), False)
+        told = seen.story(triangle(), plan, sights)
+        self.assertIs(seen.is_story(triangle(), plan, sights, told), True)
+        told[0] = (0, ("b", "a"))
+        self.assertIs(seen.is_story(triangle(), plan, sights, told), False)
+        self.assertIs(seen.is_story(triangle(), plan, sights, seen.story(triangle(), plan, sights)), True)
+        sights.reverse()
+        self.assertEqual(seen.stages(triangle(), plan, sights), [(0, 1), (0, 1)])
 
     def test_keys_ascend(self):
         for net in nets():
@@ -278,6 +337,30 @@ class CallsTest(unittest.TestCase):
         self.assertEqual(costs.cost(other.with_way("g", "c", True, "b"), ["posts", "rings"]), 3)
         self.assertEqual(costs.cost(net, ["posts", "rings"]), 3)
         self.assertEqual(net, triangle())
+
+    def test_turned_nets_of_one_that_was_asked_for_late_and_slow_packets(self):
+        net, plan = pair(), [("a",), ("b",)]
+        sights = [("g", "b", "g"), ("g", "b", "a")]
+        self.assertEqual(late.least_price(net, ["rings"], plan), 1)
+        self.assertEqual(slow.most_hops(net, plan, "g", "a"), 3)
+        self.assertEqual(seen.stages(net, plan, sights), [(0, 1), (1, 2)])
+        turned = net.turned()
+        self.assertEqual(late.least_price(turned, ["rings"], plan), 0)
+        self.assertEqual(late.fewest_standing(turned, ["rings"], 0), [("b",), ("a",)])
+        self.assertIsNone(slow.most_hops(turned, plan, "g", "a"))
+        self.assertEqual(slow.most_hops(turned, plan[::-1], "g", "b"), 3)
+        self.assertIsNone(seen.stages(turned, plan, sights))
+        other = net.with_way("g", "b", True, None)
+        self.assertIsNone(late.least_price(other, ["rings"], plan))
+        self.assertEqual(late.most_standing(other, ["rings"]), 6)
+        self.assertEqual(slow.most_hops(other, plan, "g", "a"), 2)
+        self.assertEqual(slow.slow_fault(other, ["lost"], plan, "g", "b")[0], "lost")
+        self.assertIsNone(seen.story(other, plan, sights))
+        back = other.with_way("g", "b", True, "a")
+        for one in (net, back):
+            self.assertEqual(late.least_price(one, ["rings"], plan), 1)
+            self.assertEqual(slow.most_hops(one, plan, "g", "a"), 3)
+            self.assertEqual(seen.stages(one, plan, sights), [(0, 1), (1, 2)])
 
 
 if __name__ == "__main__":

@@ -5,6 +5,7 @@ import unittest
 from roundways.blockers import blockers, greatest_rounds
 from roundways.nets import Net
 from roundways.plans import fewest, how_many, is_plan
+from roundways.slow import most_hops, slow_twice
 from roundways.wishes import keeps, shown
 
 
@@ -22,6 +23,8 @@ class ExamplesTest(unittest.TestCase):
         pair = Net({"g": ({"a": "b", "b": "g"}, {"a": "g", "b": "a"})})
         plan = [("a",), ("b",)]
         self.assertEqual((blockers(pair, (), ["rings"]), greatest_rounds(pair, (), ["rings"])), ([("b",)], [("a",)]))
+        self.assertEqual((most_hops(pair, plan, "g", "a"), [place for stage, place in slow_twice(pair, plan, "g", "a")]),
+                         (3, ["a", "b", "a"]))
         # No round of it has a ring.
         self.assertIs(is_plan(pair, ["rings"], plan), True)
 

@@ -7,7 +7,7 @@ import pathlib
 import unittest
 
 import roundways
-from roundways import blockers, costs, errors, mixtures, nets, plans, wishes
+from roundways import blockers, costs, errors, late, mixtures, nets, plans, seen, slow, wishes
 
 PACKAGE = pathlib.Path(roundways.__file__).parent
 ORDER = ["errors", "nets", "mixtures", "wishes", "blockers", "plans", "costs", "late", "slow", "seen", "live",
@@ -32,6 +32,19 @@ FUNCTIONS = {
         "how_many": "net wishes many", "plan_at": "net wishes many place",
     },
     "costs": {"cost": "net wishes", "costs": "net", "quarrels": "net many", "saved": "net wishes other"},
+    "late": {
+        "late_fault": "net wishes plan", "least_price": "net wishes plan", "is_late_fault": "net wish plan thing",
+        "stands": "net wishes plan many", "fewest_standing": "net wishes many", "most_standing": "net wishes",
+    },
+    "slow": {
+        "is_slow": "net plan goal thing", "most_hops": "net plan goal node", "slow_twice": "net plan goal node",
+        "slow_fault": "net wishes plan goal node", "hops_paper": "net plan goal node",
+        "is_hops_paper": "net plan goal node thing",
+    },
+    "seen": {
+        "is_story": "net plan sights thing", "story": "net plan sights", "stages": "net plan sights",
+        "known": "net plan sights", "clash": "net plan sights",
+    },
 }
 ERRORS = {
     "WayError": None, "BadNet": "part", "NoGoal": "goal", "NoNode": "node", "BadPlace": None, "BadLot": "part",
@@ -100,7 +113,7 @@ class InterfaceTest(unittest.TestCase):
                     self.assertIn(other, ORDER[:ORDER.index(path.stem)], path.name)
 
     def test_names_come_from_the_files_that_define_them(self):
-        for module in (nets, mixtures, wishes, blockers, plans, costs):
+        for module in (nets, mixtures, wishes, blockers, plans, costs, late, slow, seen):
             for row in ast.parse(inspect.getsource(module)).body:
                 if isinstance(row, ast.ImportFrom):
                     source = importlib.import_module(row.module)

@@ -4,6 +4,27 @@ from roundways.errors import BadPlace, NoNode
 from roundways.nets import Net
 
 
+ATTRIBUTES = {
+    "BadNet": "part", "NoGoal": "goal", "NoNode": "node", "BadLot": "part", "BadPlan": "at", "BadNumber": "number",
+    "BadSights": "at", "Unsafe": "wish", "NotSo": "node", "NoPacket": "packet", "BadJournal": "at", "BadText": "line",
+}
+
+
+def told_by(error):
+    """The class of an error and its attribute, None if it has none."""
+    name = ATTRIBUTES.get(type(error).__name__)
+    return (type(error), picture(getattr(error, name)) if name else None)
+
+
+def refusal(test, error, told, function, *given, **named):
+    """Hold a call to an error and its attribute (... if it has none), and to changing nothing."""
+    before = picture((given, named))
+    with test.assertRaises(error) as caught:
+        function(*given, **named)
+    test.assertEqual(told_by(caught.exception), (error, None if told is ... else picture(told)))
+    test.assertEqual(picture((given, named)), before)
+
+
 def nested(value, deep):
     for _ in range(deep):
         value = [value]
@@ -107,3 +128,17 @@ def losing():
     old = {"a": "b", "b": "g", "c": None}
     new = {"a": "b", "b": "c", "c": "g"}
     return Net({"g": (old, new)}, ["a"])
+
+
+def fallback(many):
+    """The packets of f are lost if f has its new way, and all of the other nodes, so many, still their old ones."""
+    nodes = "abcde"[:many]
+    old = dict(zip(nodes, [*nodes[1:], None]))
+    return Net({"g": ({**old, "f": "g"}, {**{node: "g" for node in nodes}, "f": "a"})}, ["f"])
+
+
+def costly():
+    """Against "home" two rounds are enough, but three if a node may be late."""
+    old = {"a": "d", "b": "g", "c": "a", "d": "b", "e": "a"}
+    new = {"a": "b", "b": "c", "c": "g", "d": "e", "e": "g"}
+    return Net({"g": (old, new)}, ["d", "e"])
