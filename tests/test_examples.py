@@ -1,8 +1,9 @@
-"""The examples of DOC.md, as far as their parts are there."""
+"""The examples of DOC.md."""
 
 import unittest
 
 from roundways.blockers import blockers, greatest_rounds
+from roundways.desk import Desk
 from roundways.nets import Net
 from roundways.plans import fewest, how_many, is_plan
 from roundways.slow import most_hops, slow_twice
@@ -27,6 +28,12 @@ class ExamplesTest(unittest.TestCase):
                          (3, ["a", "b", "a"]))
         # No round of it has a ring.
         self.assertIs(is_plan(pair, ["rings"], plan), True)
+
+    def test_the_desk(self):
+        desk = Desk("goal g\nway a b g\nway b g a\nsources a\nposts -\n", ["rings"])
+        first = [desk.reply(line) for line in ("begin b", "begin a", "send g a", "hop 0")]
+        later = [desk.reply(line) for line in ("change a", "close", "begin b", "fates 0", "passed 0")]
+        self.assertEqual(first + later, ["error Unsafe", "ok", "0", "b", "ok", "ok", "ok", "goal", "a b"])
 
 
 if __name__ == "__main__":

@@ -7,7 +7,7 @@ import pathlib
 import unittest
 
 import roundways
-from roundways import blockers, costs, errors, late, mixtures, nets, plans, seen, slow, wishes
+from roundways import desk, errors, live, nets
 
 PACKAGE = pathlib.Path(roundways.__file__).parent
 ORDER = ["errors", "nets", "mixtures", "wishes", "blockers", "plans", "costs", "late", "slow", "seen", "live",
@@ -45,6 +45,8 @@ FUNCTIONS = {
         "is_story": "net plan sights thing", "story": "net plan sights", "stages": "net plan sights",
         "known": "net plan sights", "clash": "net plan sights",
     },
+    "journals": {"first_wrong": "net wishes journal", "replayed": "net wishes journal"},
+    "texts": {"net_text": "net", "read_net": "text", "plan_text": "net plan", "read_plan": "net text"},
 }
 ERRORS = {
     "WayError": None, "BadNet": "part", "NoGoal": "goal", "NoNode": "node", "BadPlace": None, "BadLot": "part",
@@ -52,9 +54,16 @@ ERRORS = {
     "Unsafe": "wish", "NotSo": "node", "NoRound": None, "HalfDone": None, "NoPacket": "packet", "NothingDone": None,
     "BadJournal": "at", "BadText": "line",
 }
-NET_METHODS = {"__init__": "self tables sources posts", "way": "self goal node is_new", "turned": "self",
-               "with_way": "self goal node is_new place"}
-NET_PROPERTIES = ["tables", "goals", "nodes", "sources", "posts", "changing"]
+CLASSES = {
+    nets.Net: ({"__init__": "self tables sources posts", "way": "self goal node is_new", "turned": "self",
+                "with_way": "self goal node is_new place"},
+               ["tables", "goals", "nodes", "sources", "posts", "changing"]),
+    live.Live: ({"__init__": "self net wishes", "begin": "self nodes", "change": "self node", "put_back": "self node",
+                 "close": "self", "send": "self goal node", "hop": "self packet", "undo": "self", "passed": "self packet",
+                 "fates": "self packet", "next_rounds": "self", "tried": "self work", "copy": "self", "__enter__": "self"},
+                ["net", "wishes", "done", "round", "changed", "log"]),
+    desk.Desk: ({"__init__": "self text wishes", "reply": "self line"}, []),
+}
 
 
 def parameters(function):
@@ -91,14 +100,18 @@ class InterfaceTest(unittest.TestCase):
         classes = [name for name, value in vars(errors).items() if inspect.isclass(value)]
         self.assertEqual(sorted(classes), sorted(ERRORS))
 
-    def test_net_has_its_methods_in_its_own_body(self):
-        self.assertEqual(nets.Net.__module__, "roundways.nets")
-        self.assertEqual(nets.Net.__bases__, (object,))
-        for name, wanted in NET_METHODS.items():
-            self.assertEqual(parameters(vars(nets.Net)[name]), wanted.split())
-        for name in NET_PROPERTIES:
-            self.assertIsInstance(vars(nets.Net)[name], property)
-            self.assertIsNone(vars(nets.Net)[name].fset)
+    def test_classes_have_their_methods_in_their_own_bodies(self):
+        for one, (methods, properties) in CLASSES.items():
+            self.assertEqual(one.__module__, f"roundways.{one.__name__.lower()}".replace(".net", ".nets"))
+            for name, wanted in methods.items():
+                self.assertEqual(parameters(vars(one)[name]), wanted.split())
+                defaults = [p.default for p in inspect.signature(vars(one)[name]).parameters.values()]
+                if (one, name) != (nets.Net, "__init__"):
+                    self.assertEqual(set(defaults), {inspect.Parameter.empty})
+            for name in properties:
+                self.assertIsInstance(vars(one)[name], property)
+                self.assertIsNone(vars(one)[name].fset)
+        self.assertIn("__exit__", vars(live.Live))
         self.assertEqual([p.default for p in inspect.signature(nets.Net).parameters.values()][1:], [(), ()])
 
     def test_init_defines_nothing(self):
@@ -106,6 +119,7 @@ class InterfaceTest(unittest.TestCase):
         self.assertTrue(all(isinstance(row, ast.Expr) and isinstance(row.value, ast.Constant) for row in rows))
 
     def test_modules_import_only_modules_named_before(self):
+        self.assertLessEqual(set(ORDER), {path.stem for path in PACKAGE.glob("*.py")})
         for path in sorted(PACKAGE.glob("*.py")):
             for row in ast.walk(ast.parse(path.read_text())):
                 if isinstance(row, ast.ImportFrom) and row.module.startswith("roundways") and path.stem in ORDER:
@@ -113,7 +127,7 @@ class InterfaceTest(unittest.TestCase):
                     self.assertIn(other, ORDER[:ORDER.index(path.stem)], path.name)
 
     def test_names_come_from_the_files_that_define_them(self):
-        for module in (nets, mixtures, wishes, blockers, plans, costs, late, slow, seen):
+        for module in [importlib.import_module(f"roundways.{name}") for name in ORDER]:
             for row in ast.parse(inspect.getsource(module)).body:
                 if isinstance(row, ast.ImportFrom):
                     source = importlib.import_module(row.module)

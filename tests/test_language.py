@@ -23,6 +23,7 @@ WORDS = """type typing typing_extensions enum Enum IntEnum StrEnum Flag IntFlag 
 NO_NAMES = """register mro elements open input law version_info with_traceback add_note attrgetter breakpoint builtins
     compile copyright credits delattr dir eval exec exit gc getattr globals hasattr help id importlib license locals
     methodcaller os quit setattr vars sys""".split()
+NO_NAMES_AT_ALL = "register mro elements open input law version_info with_traceback add_note".split()
 NO_NODES = (ast.Global, ast.AsyncFunctionDef, ast.AsyncFor, ast.AsyncWith, ast.Await, ast.Import, ast.Div, ast.MatMult,
             ast.GeneratorExp)
 
@@ -199,6 +200,69 @@ class CodeTest(unittest.TestCase):
             if isinstance(node, ast.Raise):
                 self.assertIsInstance(node.exc, ast.Call, (path, node.lineno))
                 self.assertIsInstance(node.exc.func, ast.Name, (path, node.lineno))
+                self.assertTrue(node.cause is None or isinstance(node.cause, ast.Constant), (path, node.lineno))
+
+    def test_only_own_errors_are_caught(self):
+        own = {node.name for _, node in nodes() if isinstance(node, ast.ClassDef)}
+        for path, node in nodes():
+            if isinstance(node, ast.Try):
+                self.assertEqual(node.finalbody, [], (path, node.lineno))
+            if isinstance(node, ast.ExceptHandler):
+                self.assertIn(getattr(node.type, "id", None), own, (path, node.lineno))
+
+    def test_what_is_done_when_a_block_is_left(self):
+        blocks = [node for _, node in nodes() if isinstance(node, ast.FunctionDef) and node.name == "__exit__"]
+        for block in blocks:
+            self.assertEqual([part.arg for part in block.args.args], ["self", "kind", "value", "trace"])
+            read = [part.id for part in ast.walk(block) if isinstance(part, ast.Name)]
+            self.assertEqual(set(read) & {"value", "trace"}, set())
+            for row in ast.walk(block):
+                self.assertNotIsInstance(row, (ast.Call, ast.Subscript, ast.Return, ast.Raise, ast.For, ast.While, ast.Try))
+                if isinstance(row, ast.Assign):
+                    self.assertIsInstance(row.targets[0], ast.Attribute)
+                    self.assertIsInstance(row.value, ast.Attribute)
+                if isinstance(row, ast.Compare):
+                    self.assertIn(ast.unparse(row), ("kind is None", "kind is not None"))
+        self.assertEqual(len(blocks), 1)
+
+    def test_names_of_methods_properties_and_attributes(self):
+        rows = [(node, row) for _, node in nodes() if isinstance(node, ast.ClassDef) for row in node.body
+                if isinstance(row, ast.FunctionDef)]
+        properties = {row.name for _, row in rows if row.decorator_list}
+        methods = {row.name for _, row in rows if not row.decorator_list}
+        stored = {node.attr for _, node in nodes() if isinstance(node, ast.Attribute) and isinstance(node.ctx, ast.Store)}
+        self.assertEqual(properties & methods, set())
+        self.assertEqual(stored & (properties | methods), set())
+        self.assertEqual(stored & set(METHODS), set())
+        for path, node in nodes():
+            if isinstance(node, ast.Attribute):
+                self.assertNotIn(node.attr, NO_NAMES_AT_ALL + ["format", "format_map", "args"], (path, node.lineno))
+                if node.attr.startswith("__"):
+                    self.assertIn(node.attr, ("__init__", "__class__", "__name__"), (path, node.lineno))
+                if node.attr == "__name__":
+                    self.assertEqual(getattr(node.value, "attr", None), "__class__", (path, node.lineno))
+
+    def test_properties_change_nothing(self):
+        for path, node in nodes():
+            if isinstance(node, ast.FunctionDef) and node.decorator_list:
+                for part in ast.walk(node):
+                    self.assertFalse(isinstance(part, (ast.Attribute, ast.Subscript)) and not isinstance(part.ctx, ast.Load),
+                                     (path, node.name))
+                    if isinstance(part, ast.Call) and isinstance(part.func, ast.Attribute):
+                        self.assertIn(part.func.attr, ("items", "values", "keys", "get"), (path, node.name))
+
+    def test_keywords_of_builtins(self):
+        allowed = {"sorted": ("key", "reverse"), "min": ("key", "default"), "max": ("key", "default"), "sum": ("start",),
+                   "enumerate": ("start",), "zip": ("strict",)}
+        for path, node in nodes():
+            if isinstance(node, ast.Call) and isinstance(node.func, ast.Name) and node.func.id in BUILTINS:
+                for keyword in node.keywords:
+                    self.assertIn(keyword.arg, allowed.get(node.func.id, ()), (path, node.lineno))
+                # L23: what is iterated at once stands in no other call than these.
+                for part in node.args:
+                    called = getattr(part, "func", None)
+                    if getattr(called, "id", None) in ("zip", "enumerate", "reversed") or getattr(called, "attr", None) in ("items", "values"):
+                        self.assertIn(node.func.id, "list tuple dict sorted sum any all enumerate zip min max".split(), (path, node.lineno))
 
 
 if __name__ == "__main__":

@@ -12,12 +12,16 @@ class ReadmeTest(unittest.TestCase):
         blocks = README.read_text(encoding="utf-8").split("```python\n")[1:]
         self.assertGreater(len(blocks), 2)
         for code in [block.split("```")[0] for block in blocks]:
-            names = {}
-            exec(code, names)
-            shown = [line.split(" # ") for line in code.splitlines() if " # " in line]
-            self.assertGreater(len(shown), 3)
-            for call, value in shown:
-                self.assertEqual(eval(call.strip(), names), ast.literal_eval(value.strip()), call)
+            names, shown, lines = {}, 0, code.splitlines()
+            for row in ast.parse(code).body:
+                text = "\n".join(lines[row.lineno - 1:row.end_lineno])
+                if " # " in text:
+                    call, value = text.split(" # ")
+                    self.assertEqual(eval(call.strip(), names), ast.literal_eval(value.strip()), call)
+                    shown += 1
+                else:
+                    exec(text, names)
+            self.assertGreater(shown, 3)
 
 
 if __name__ == "__main__":

@@ -1,7 +1,11 @@
 """Values that several tests use."""
 
+from roundways.desk import Desk
 from roundways.errors import BadPlace, NoNode
+from roundways.live import Live
 from roundways.nets import Net
+
+SMALL_TEXT = "goal z\nway y z -\nsources -\nposts -\n"
 
 
 ATTRIBUTES = {
@@ -51,7 +55,29 @@ def picture(value):
         return f"dict[{', '.join(f'{picture(key)}: {picture(item)}' for key, item in value.items())}]"
     if isinstance(value, Net):
         return f"Net[{value.tables!r}, {value.sources!r}, {value.posts!r}]"
+    if isinstance(value, Live):
+        return f"Live[{picture(all_of_live(value))}]"
+    if isinstance(value, Desk):
+        return f"Desk[{picture(all_of_desk(value))}]"
     return repr(value)
+
+
+def all_of_live(live):
+    """All that can be asked of a live net."""
+    sends = [deed for deed in live.log if deed[0] == "send"]
+    passed = [live.passed(packet) for packet in range(len(sends))]
+    fates = [live.fates(packet) if places[-1] in live.net.nodes else None for packet, places in enumerate(passed)]
+    return [live.net, live.wishes, live.done, live.round, live.changed, live.log, passed, fates, live.next_rounds()]
+
+
+def all_of_desk(desk):
+    """All that can be asked of a desk."""
+    lines = ["done", "open", "next", "cost"]
+    packets = 0
+    while desk.reply(f"passed {packets}") != "error NoPacket":
+        lines += [f"passed {packets}", f"fates {packets}"]
+        packets += 1
+    return [desk.reply(line) for line in lines]
 
 
 def other_net():
@@ -65,6 +91,7 @@ def any_values():
         [], (), {}, [None], (None,), ["a"], ("a", "a"), [["a"]], (("a",),), {"a": 1}, {1: "a"}, {None: None},
         {("a",): ["a"]}, nested("a", 20), nested_tuple("a", 20), nested_dict("a", 20), nested_tuple(1, 20),
         other_net(), [other_net()], (other_net(),), {"a": other_net()}, BadPlace("no place"), NoNode("a"),
+        Live(other_net(), []), [Live(other_net(), ["home"])], Desk(SMALL_TEXT, []), (Desk(SMALL_TEXT, []), 0),
     ]
 
 
