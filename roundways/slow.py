@@ -81,7 +81,7 @@ def go_on(longest, stage, mixture):
     """Put into the dict from places to longest packets those of one stage, in whose mixture there is no ring."""
     ranks = least_ranks(mixture)
     # Who has the greater rank hands packets on to the others: its own longest packet is found before.
-    for _, node in sorted([(-ranks[node], node) for node in mixture]):
+    for _, node in sorted([(-ranks[other], other) for other in mixture]):
         for place in [other for other in mixture[node] if other is not None]:
             if place not in longest or len(longest[place]) <= len(longest[node]):
                 longest[place] = [*longest[node], (stage, place)]

@@ -96,9 +96,11 @@ class DeskTest(unittest.TestCase):
                      "send g -", "done ", "done a", "open a", "open ", "next 1", "next ", "cost rings", "cost ", "log", "copy", "round", "changed",
                      "wishes", "help", "hop zero", "close\n", "\nclose", "close\nclose", "0", "-", "ok", "none", "never", "not understood", "error"):
             self.replies(desk, (line, NOT_UNDERSTOOD))
-        for value in any_values() + [["close"], ("close",), {"close": 1}, b"close"]:
+        before = picture(desk)
+        for value in any_values() + [["close"], ("close",), {"close": 1}, [["close"]]]:
             self.assertEqual(desk.reply(value), NOT_UNDERSTOOD)
             self.assertEqual(desk.reply(line=value), NOT_UNDERSTOOD)
+        self.assertEqual(picture(desk), before)
         self.replies(desk, ("open", "a b"), ("passed 0", "a"), ("undo", "ok"), ("undo", "ok"), ("undo", "error NothingDone"))
 
     def test_names_of_six_letters(self):

@@ -150,6 +150,16 @@ class HopsTest(unittest.TestCase):
         net = Net({"g": (old, new)})
         self.most(net, [("b", "c")], "g", {"a": 1, "b": None, "c": None})
 
+    def test_a_ring_that_is_nearer_in_a_later_stage(self):
+        # From d the ring is one hop away, but only when d has changed; until then it is two hops away.
+        old = {"a": "b", "b": "a", "c": "g", "d": "e", "e": "a", "f": "g"}
+        new = {"a": "b", "b": "g", "c": None, "d": "a", "e": "a", "f": "d"}
+        net = Net({"g": (old, new)})
+        self.most(net, [("c",), ("b",), ("d",)], "g", {"a": None, "b": None, "c": 1, "d": None, "e": None, "f": 1})
+        self.most(net, [("c",), ("b", "d")], "g", {"d": None, "e": None})
+        self.most(net, [("b", "f"), ("d",)], "g", {"d": None, "f": None})
+        self.most(net, [("c", "f")], "g", {"d": None, "f": None, "c": 1})
+
     def test_the_height_of_who_waits(self):
         paper = hops_paper(pair(), PLAN, "g", "a")
         self.assertEqual(max(paper[1].values()), 3)
@@ -211,7 +221,7 @@ class PapersTest(unittest.TestCase):
         self.judged(("most", small, [(0, "b"), (1, "g")]), True, [("a",)], "b")
         self.judged(("most", {**small, (1, "a"): 0}, [(0, "b"), (1, "g")]), True, [("a",)], "b")
         self.judged(("most", {**small, (1, "a"): 1}, [(0, "b"), (1, "g")]), False, [("a",)], "b")
-        for key in ((2, "b"), (-1, "g"), (0, None), (1, "c"), (True, "a"), (0, ("g",)), "0g", (0,), (0, "g", 1), 0, None, ((0, "g"),)):
+        for key in ((2, "b"), (-1, "g"), (0, None), (1, None), (1, "c"), (True, "a"), (0, ("g",)), "0g", (0,), (0, "g", 1), 0, None, ((0, "g"),)):
             self.judged(("most", {**small, key: 1}, [(0, "b"), (1, "g")]), False, [("a",)], "b")
 
     def test_numbers_are_counts(self):

@@ -244,6 +244,18 @@ class PlanTextsTest(unittest.TestCase):
         first.append(("c",))
         self.assertEqual(read_plan(triangle(), "round a\nround b\n"), [("a",), ("b",)])
 
+    def test_later_changes_of_what_was_passed(self):
+        plan, tables = [("b",), ("c",)], triangle().tables
+        net = Net(tables, ["a"])
+        texts = (plan_text(net, plan), net_text(net))
+        plan.append(("a",))
+        tables["g"][0]["a"] = None
+        net.tables["g"][1]["a"] = "g"
+        self.assertEqual((plan_text(net, plan[:2]), net_text(net)), texts)
+        self.assertEqual(plan_text(net, plan), "round b\nround c\nround a\n")
+        self.assertEqual(net_text(net.turned()), plain_texts.written(net.turned()))
+        self.assertEqual(net_text(net.with_way("g", "a", False, None)), texts[1].replace("way a b c", "way a - c"))
+
     def test_the_empty_text_and_no_text(self):
         self.assertEqual(read_plan(triangle(), ""), [])
         self.assertEqual(read_plan(still(), ""), [])
